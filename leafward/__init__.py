@@ -1,0 +1,1 @@
+"""Leafward: transformations of documents, checked against schemas for all documents."""
