@@ -2,6 +2,7 @@
 
 from leafward.document import LABELS
 from leafward.errors import TooMuch
+from leafward.smallest import Leasts
 
 
 class Closure:
@@ -45,3 +46,17 @@ class Closure:
         for label in range(LABELS):
             kind = self.steps.after(label, self.kinds[inside], self.kinds[rest])
             self.rules.append((self.number_of(kind), label, inside, rest))
+
+    def least_document(self, numbers):
+        """The least of all documents that have a kind of one of these numbers; TooMuch if it is beyond the bounds."""
+        leasts = Leasts([number == 0 for number in range(len(self.kinds))], self.rules)
+        return leasts.document(leasts.least_of(numbers))
+
+
+def is_closed(steps, known):
+    """Whether known, a dict, has the kind of the empty document and all that follow from the kinds in it."""
+    if steps.empty not in known:
+        return False
+    return all(
+        steps.after(label, inside, rest) in known for inside in known for rest in known for label in range(LABELS)
+    )

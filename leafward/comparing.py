@@ -1,11 +1,10 @@
 """Whether schemas are within one another, with papers that tell it."""
 
-from leafward.closing import Closure
-from leafward.document import LABELS, is_document
-from leafward.forms import is_below, is_rising, is_tuple_of
+from leafward.closing import Closure, is_closed
+from leafward.document import is_document
+from leafward.forms import is_set, is_tuple_of
 from leafward.schema import check_schema
-from leafward.smallest import Leasts
-from leafward.stepping import Both, Steps, bits_of, states_of
+from leafward.stepping import Both, bits_of, kind_of, states_of
 
 MOST_PAIRS = 60
 MOST_PAPER_PAIRS = 150
@@ -18,19 +17,13 @@ def within(s, t):
     closure = Closure(Both(s, t), MOST_PAIRS)
     bad = [number for number, pair in enumerate(closure.kinds) if is_bad(pair)]
     if bad:
-        return ("no", least_document(closure, bad))
+        return ("no", closure.least_document(bad))
     return ("yes", tuple([(states_of(left), states_of(right)) for left, right in closure.kinds]))
 
 
 def is_bad(pair):
     """Whether documents with this pair of sets are allowed by the first schema and not by the second one."""
     return pair[0] & 1 == 1 and pair[1] & 1 == 0
-
-
-def least_document(closure, numbers):
-    """The least of all documents that have a kind of one of these numbers; TooMuch if it is beyond the bounds."""
-    leasts = Leasts([number == 0 for number in range(len(closure.kinds))], closure.rules)
-    return leasts.document(leasts.least_of(numbers))
 
 
 def takes(s, t, paper):
@@ -42,7 +35,7 @@ def takes(s, t, paper):
     word, told = paper
     if word == "yes":
         return are_pairs(told, s, t) and shows_within(s, t, told)
-    return word == "no" and is_document(told) and shows_not_within(s, t, told)
+    return word == "no" and is_document(told) and is_bad(kind_of(Both(s, t), told))
 
 
 def are_pairs(pairs, s, t):
@@ -52,25 +45,10 @@ def are_pairs(pairs, s, t):
     return all(is_tuple_of(pair, 2) and is_set(pair[0], len(s)) and is_set(pair[1], len(t)) for pair in pairs)
 
 
-def is_set(states, many):
-    """Whether states is a strictly rising tuple of states of a schema of that many states."""
-    return isinstance(states, tuple) and all(is_below(state, many) for state in states) and is_rising(states)
-
-
 def shows_within(s, t, pairs):
     """Whether the pairs hold that of the empty document and all that follow from them, and none of them is bad."""
-    steps = Both(s, t)
     known = {(bits_of(left), bits_of(right)): True for left, right in pairs}
-    if steps.empty not in known or any(is_bad(pair) for pair in known):
-        return False
-    return all(
-        steps.after(label, inside, rest) in known for inside in known for rest in known for label in range(LABELS)
-    )
-
-
-def shows_not_within(s, t, d):
-    """Whether s allows d and t does not."""
-    return is_bad((Steps(s).of_document(d), Steps(t).of_document(d)))
+    return not any(is_bad(pair) for pair in known) and is_closed(Both(s, t), known)
 
 
 def equal(s, t):

@@ -14,3 +14,8 @@ def is_tuple_of(worth, many):
 def is_rising(row):
     """Whether each item of row is less than the one behind it."""
     return all(row[at - 1] < row[at] for at in range(1, len(row)))
+
+
+def is_set(states, many):
+    """Whether states is a strictly rising tuple of states of a schema of that many states."""
+    return isinstance(states, tuple) and all(is_below(state, many) for state in states) and is_rising(states)

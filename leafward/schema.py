@@ -4,7 +4,7 @@ from leafward.document import LABELS, check_document
 from leafward.errors import BadSchema, TooMuch
 from leafward.forms import is_below, is_rising, is_tuple_of
 from leafward.smallest import Leasts
-from leafward.stepping import Steps, rules_of, states_of
+from leafward.stepping import Steps, kind_of, rules_of, states_of
 
 MOST_STATES = 60
 MOST_RULES = 2000
@@ -50,7 +50,7 @@ def set_of(s, d):
     """The strictly rising tuple of the states of s that allow d."""
     check_schema(s)
     check_document(d)
-    return states_of(Steps(s).of_document(d))
+    return states_of(kind_of(Steps(s), d))
 
 
 def least(s):

@@ -14,7 +14,7 @@ class Steps:
     """
 
     def __init__(self, schema):
-        self.empty = bits_of([state for state, (ends, _) in enumerate(schema) if ends])
+        self.empty = ends_of(schema)
         self.rules = rules_by_label(schema)
         self.rows = {}
         self.steps = {}
@@ -26,7 +26,7 @@ class Steps:
             found = 0
             for state, wanted in self.row(label, inside):
                 if wanted & rest:
-                    found = found | state
+                    found = found | 1 << state
             self.steps[asked] = found
         return self.steps[asked]
 
@@ -36,13 +36,6 @@ class Steps:
         if asked not in self.rows:
             self.rows[asked] = row_of(self.rules[label], inside)
         return self.rows[asked]
-
-    def of_document(self, d):
-        """The set of a document."""
-        found = self.empty
-        for label, kids in reversed(d):
-            found = self.after(label, self.of_document(kids), found)
-        return found
 
 
 class Both:
@@ -58,6 +51,14 @@ class Both:
         return (self.left.after(label, inside[0], rest[0]), self.right.after(label, inside[1], rest[1]))
 
 
+def kind_of(steps, d):
+    """What a document has under some steps."""
+    found = steps.empty
+    for label, kids in reversed(d):
+        found = steps.after(label, kind_of(steps, kids), found)
+    return found
+
+
 def bits_of(states):
     """The number that stands for the set of the states, none of which comes twice."""
     return sum([1 << state for state in states])
@@ -68,16 +69,21 @@ def states_of(bits):
     return tuple([state for state in range(bits.bit_length()) if bits >> state & 1])
 
 
+def ends_of(schema):
+    """The set of the states of a schema that allow the empty document."""
+    return bits_of([state for state, (ends, _) in enumerate(schema) if ends])
+
+
 def rules_of(schema):
     """All rules of a schema, each with its state in front."""
     return [(state, *rule) for state, (_, rules) in enumerate(schema) for rule in rules]
 
 
 def rules_by_label(schema):
-    """For each label the list of its rules: the state, inside and next, each as a set of that state alone."""
+    """For each label the list of its rules (state, inside, next)."""
     found = [[] for _ in range(LABELS)]
     for state, label, inside, behind in rules_of(schema):
-        found[label].append((1 << state, 1 << inside, 1 << behind))
+        found[label].append((state, inside, behind))
     return found
 
 
@@ -85,6 +91,6 @@ def row_of(rules, inside):
     """The states that have a rule for the set inside, each with the set of all that it wants as rest."""
     wanted = {}
     for state, kids, behind in rules:
-        if kids & inside:
-            wanted[state] = wanted.get(state, 0) | behind
+        if inside >> kids & 1:
+            wanted[state] = wanted.get(state, 0) | 1 << behind
     return list(wanted.items())

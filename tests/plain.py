@@ -44,8 +44,23 @@ def documents_up_to(most, labels):
     return [d for many in range(most + 1) for d in documents(many, labels)]
 
 
+def drawn(rng, many, labels):
+    """A drawn document of that many trees."""
+    found = ()
+    while many:
+        inside = rng.randrange(many)
+        found += ((rng.choice(labels), drawn(rng, inside, labels)),)
+        many -= 1 + inside
+    return found
+
+
 def plain_size(d):
     return 0 if not d else 1 + plain_size(d[0][1]) + plain_size(d[1:])
+
+
+def size_of(d):
+    """The size, of rows too that are too long for plain_size."""
+    return sum(1 + size_of(kids) for _, kids in d)
 
 
 def plain_before(d, e):

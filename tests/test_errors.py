@@ -3,7 +3,7 @@
 import inspect
 import unittest
 
-from leafward import comparing, document, errors, schema
+from leafward import comparing, document, errors, fitting, joining, schema, transformation, writing
 
 KINDS = ("BadDocument", "BadSchema", "BadTransformation", "BadText", "TooMuch")
 
@@ -15,6 +15,14 @@ INTERFACE = {
         "check_schema": ["s"], "allows": ["s", "d"], "set_of": ["s", "d"], "least": ["s"], "counted": ["s", "most"],
     },
     comparing: {"within": ["s", "t"], "takes": ["s", "t", "paper"], "equal": ["s", "t"]},
+    joining: {"added": ["s", "t"], "meet": ["s", "t"], "without": ["s", "t"]},
+    transformation: {"check_transformation": ["m"], "turned": ["m", "d"], "made": ["m", "state", "d"]},
+    fitting: {
+        "move": ["t", "d"], "profile": ["s", "m", "t", "d"], "follows": ["s", "m", "t", "label", "kids", "rest"],
+        "first_profile": ["s", "m", "t"], "fits": ["s", "m", "t"], "accepts": ["s", "m", "t", "paper"],
+        "schema_before": ["m", "t"],
+    },
+    writing: {"written_schema": ["s"], "read_schema": ["text"]},
 }
 
 

@@ -11,7 +11,7 @@ BUILTINS = (
     "tuple", "dict", "isinstance", "any", "all", "ValueError",
 )
 METHODS = (
-    "append", "bit_length", "extend", "get", "items", "join", "pop", "setdefault",
+    "append", "bit_length", "count", "extend", "get", "isascii", "isdigit", "items", "join", "pop", "setdefault", "split",
 )
 UNUSED_WORDS = r"\b(type|typing|enum|Enum|namedtuple|Generic|Protocol|ABC|Flag)\b|dataclass|overload"
 FORBIDDEN = (
